@@ -1,0 +1,1 @@
+"""Changesums: changes told back from power sums."""

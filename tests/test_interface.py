@@ -1,0 +1,93 @@
+"""Point 3 and the section "The interface": names, arguments, and the tree of errors."""
+
+import ast
+import importlib
+import inspect
+import os
+import unittest
+
+from changesums import errors
+
+FOLDER = os.path.join(os.path.dirname(os.path.dirname(os.path.abspath(__file__))), "changesums")
+
+FUNCTIONS = {
+    "ledgers": """
+        is_ledger(value) gathered(changes) amount_at(ledger, key) with_amount(ledger, key, amount) weight(ledger)
+        added(*ledgers) less(one, other) scaled(ledger, by) product(one, other) power(ledger, times)
+        weighted(ledger, times) moved(ledger, by) stretched(ledger, by) folded(ledger, modulus) cut(ledger, step)
+        part(ledger, low, width)""",
+    "polynomials": """
+        is_polynomial(value) value_at(polynomial, place) times(one, other) primitive(polynomial) common(one, other)
+        square_free(polynomial) count_roots(polynomial, low, high) root_cells(polynomial) integer_roots(polynomial)
+        from_roots(roots)""",
+}
+
+ERRORS = """
+    InvalidLedger InvalidChanges InvalidKey InvalidAmount InvalidNumber InvalidStep InvalidWidth InvalidPolynomial
+    InvalidPlace InvalidPlaces InvalidSums InvalidKeys InvalidRows InvalidIndex InvalidPrime InvalidResidues
+    InvalidTalk InvalidText OtherLength OutOfSpan NotMade NotACount TooFewSums NotALedger NotSums NothingToUndo
+    TooManyKeys BelowZero""".split()
+
+
+def listed(text):
+    """Return the tuples (name, signature) of a list of functions."""
+    found = []
+    for piece in " ".join(text.split()).split(") "):
+        name, _, arguments = piece.rstrip(")").partition("(")
+        found.append((name, f"({arguments})"))
+    return found
+
+
+def defined(module):
+    """Return the names of the functions and classes that stand in a file itself."""
+    with open(os.path.join(FOLDER, f"{module}.py"), encoding="utf-8") as file:
+        body = ast.parse(file.read()).body
+    return [node.name for node in body if isinstance(node, (ast.FunctionDef, ast.ClassDef))]
+
+
+class Interface(unittest.TestCase):
+    def test_each_function_stands_in_its_file_with_its_arguments(self):
+        for module, text in FUNCTIONS.items():
+            names = defined(module)
+            functions = importlib.import_module(f"changesums.{module}")
+            for name, signature in listed(text):
+                with self.subTest(module=module, name=name):
+                    self.assertIn(name, names)
+                    self.assertEqual(str(inspect.signature(getattr(functions, name))), signature)
+
+    def test_each_error_stands_in_its_file(self):
+        self.assertEqual(sorted(defined("errors")), sorted(ERRORS + ["SumsError"]))
+
+
+class ErrorTree(unittest.TestCase):
+    def test_sums_error_is_a_value_error(self):
+        self.assertTrue(issubclass(errors.SumsError, ValueError))
+
+    def test_no_error_but_sums_error_stands_above_another_one(self):
+        classes = [getattr(errors, name) for name in ERRORS]
+        self.assertEqual(len(set(classes)), 28)
+        for one in classes:
+            self.assertTrue(issubclass(one, errors.SumsError))
+            self.assertFalse(issubclass(errors.SumsError, one))
+            for other in classes:
+                self.assertEqual(issubclass(one, other), one is other)
+
+    def test_errors_are_raised_without_arguments(self):
+        for name in ERRORS[:-1] + ["SumsError"]:
+            with self.subTest(name), self.assertRaises(errors.SumsError) as caught:
+                raise getattr(errors, name)()
+            self.assertIs(type(caught.exception), getattr(errors, name))
+
+    def test_below_zero_keeps_its_key(self):
+        for key in (0, 5, -10 ** 15):
+            for error in (errors.BelowZero(key), errors.BelowZero(key=key)):
+                self.assertEqual(error.key, key)
+                with self.assertRaises(ValueError) as caught:
+                    raise error
+                self.assertEqual(caught.exception.key, key)
+        with self.assertRaises(TypeError):
+            errors.BelowZero()
+
+
+if __name__ == "__main__":
+    unittest.main()
