@@ -4,10 +4,7 @@ from math import gcd
 
 from changesums.errors import InvalidPlaces, InvalidPolynomial
 from changesums.integers import check_place, is_an_integer
-
-# Integer roots are found by their digits to this base. It is a prime, so that
-# a polynomial has no more roots modulo the base than its degree tells.
-BASE = 101
+from changesums.whole_roots import root_bound, value_of, whole_roots
 
 
 def is_polynomial(value):
@@ -27,14 +24,6 @@ def check_with_roots(value):
     """Raise InvalidPolynomial for any value that is not a polynomial, and for (), of which all numbers are roots."""
     if not is_polynomial(value) or value == ():
         raise InvalidPolynomial()
-
-
-def value_of(polynomial, place):
-    """Return the value of a checked polynomial at an integer."""
-    result = 0
-    for number in polynomial[::-1]:
-        result = result * place + number
-    return result
 
 
 def value_at(polynomial, place):
@@ -187,17 +176,6 @@ def count_roots(polynomial, low, high):
     return signs_changed(chain, low) - signs_changed(chain, high)
 
 
-def root_bound(polynomial):
-    """Return a power of 2 that is above the absolute value of each root."""
-    top = abs(polynomial[-1]).bit_length()
-    exponent = 0
-    for k, number in enumerate(polynomial[-2::-1]):
-        # No absolute value of a root is above twice the greatest of the (k + 1)-th roots
-        # of abs(number / last coefficient), and 2 to the exponent is above all of these.
-        exponent = max(exponent, -((top - 1 - abs(number).bit_length()) // (k + 1)))
-    return 1 << (exponent + 1)
-
-
 def cell_of_root(polynomial, low, high):
     """Return the least integer not below the only root above low and at most high, which is a simple one."""
     above = value_of(polynomial, high)
@@ -237,56 +215,10 @@ def root_cells(polynomial):
     return cells
 
 
-def composed(polynomial, digit):
-    """Return the polynomial at digit + BASE * y as a polynomial in y, without its content."""
-    result = [0] * len(polynomial)
-    for number in polynomial[::-1]:
-        higher = [digit * result[k] + BASE * result[k - 1] for k in range(1, len(result))]
-        result = [digit * result[0] + number] + higher
-    return trimmed(result)
-
-
-def roots_modulo(polynomial):
-    """Return the integers from 0 to BASE - 1 at which the value is divisible by BASE."""
-    rests = trimmed([number % BASE for number in polynomial])
-    return [digit for digit in range(BASE) if value_of(rests, digit) % BASE == 0]
-
-
-def root_candidates(polynomial):
-    """Return integers, each of them once, among which are all integer roots of a polynomial other than ().
-
-    The digits of a root are found from the last one on: with a root d + BASE * y,
-    d is a root modulo BASE, and y is a root of another polynomial.
-    """
-    bound = root_bound(polynomial)
-    scale = 1
-    branches = [(0, trimmed(polynomial))]
-    while scale <= 2 * bound:
-        longer = []
-        for start, rest in branches:
-            for digit in roots_modulo(rest):
-                longer.append((start + scale * digit, composed(rest, digit)))
-        branches = longer
-        scale = scale * BASE
-    # The row of digits of a root below 0 is that of the root plus scale.
-    return [start - scale if start > bound else start for start, rest in branches]
-
-
-def multiplicity(polynomial, root):
-    """Return the number of times that an integer is a root of a polynomial other than ()."""
-    many = 0
-    rest = polynomial
-    while value_of(rest, root) == 0:
-        rest = quotient(rest, (-root, 1))
-        many = many + 1
-    return many
-
-
 def integer_roots(polynomial):
     """Return the ascending list of the tuples (root, many) of the integer roots."""
     check_with_roots(polynomial)
-    found = [(root, multiplicity(polynomial, root)) for root in sorted(root_candidates(polynomial))]
-    return [(root, many) for root, many in found if many > 0]
+    return whole_roots(polynomial)
 
 
 def from_roots(roots):

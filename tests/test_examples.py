@@ -1,6 +1,7 @@
-"""The examples of DOC.md, as printed there, one behind the other."""
+"""The examples of DOC.md, as printed there, one behind the other, and those of README.md."""
 
 import doctest
+import os
 import unittest
 
 LEDGERS = """
@@ -21,13 +22,52 @@ POLYNOMIALS = """
     [[(-1, 1), (2, 1)], 1, [], []]
 """
 
+SUMS = """
+    >>> from changesums.sums import blind, parting, sign_changes, sums_moved, sums_of, sums_product, sums_quotient
+    >>> [sums_of(a, 4), sums_moved(sums_of(a, 4), 2), sums_product((1, 1, 1), (2, 0, 4)), parting(a, ((-1, 3), (5, 2)))]
+    [(6, 12, 78, 372), (6, 24, 150, 1032), (2, 2, 6), 0]
+    >>> [blind(((0, 1), (1, -2), (2, 1))), blind(a), blind(()), sign_changes(((0, 1), (1, -2), (2, 1)))]
+    [2, 0, None, 2]
+    >>> [sums_quotient((2, 2, 6), (1, 1, 1)), sums_quotient((1, 0), (2, 2)), sums_quotient((0, 1), (0, 1))]
+    [(2, 0, 4), None, None]
+"""
+
+BRIEFS = """
+    >>> from changesums.briefs import brief, cleared, in_span, is_made, least_blind, on_keys
+    >>> [brief(sums_of(((7, 1),), 3)), is_made((0, 0, 1)), is_made((0, 0, 2)), in_span((1, 7, 49), 6, 3)]
+    [((0, 15), (1, -35), (2, 21)), False, True, ((7, 1),)]
+    >>> [least_blind(3, 5), cleared(((0, 1), (1, -1), (2, -1), (3, 1))), on_keys((2, 10, 58), (3, 7))]
+    [((5, -1), (6, 3), (7, -3), (8, 1)), ((0, 1), (1, 1)), ((3, 1), (7, 1))]
+"""
+
+RULES = """
+    >>> from changesums.rules import amounts_for, determinant, rule_length, rule_of
+    >>> [rule_of(sums_of(a, 4)), rule_length((1, 2, 4, 9)), determinant((1, 2, 4, 9), 2), amounts_for((1, 1), (0, 2))]
+    [(-5, -4, 1), 3, 0, [(1, 2), (1, 2)]]
+"""
+
+TOLD = """
+    >>> from changesums.told import changed, mended, mistaken, reason, sure, told
+    >>> [told(sums_of(a, 4)), reason((1, 2, 4, 9)), reason((2, 0, 4, 0)), reason((1, 1, 2, 4))]
+    [((-1, 3), (5, 3)), ('rule', 3), ('roots', 0), ('amount', 0)]
+    >>> [sure((2, 14), 1), sure((2, 14), 2), mistaken(((6, 1), (8, 1)), 2), mistaken(a, 4)]
+    [((7, 2),), None, ((7, 2),), None]
+    >>> changed(sums_of(a, 4), sums_of(added(a, ((5, 1), (9, -4))), 4))
+    ((5, 1), (9, -4))
+    >>> mended((3, 6, 12, 7, 48, 96), keys=1, wrong=1)
+    (((2, 3),), [3])
+"""
+
+SECTIONS = (LEDGERS, POLYNOMIALS, SUMS, BRIEFS, RULES, TOLD)
+
 
 class Examples(unittest.TestCase):
     """Later sections use the names of the earlier ones, so all examples run in one row."""
 
     def test_examples(self):
         names = {}
-        for title, text in (("section 2", LEDGERS), ("section 3", POLYNOMIALS)):
+        for number, text in enumerate(SECTIONS, start=2):
+            title = f"section {number}"
             with self.subTest(title):
                 example = doctest.DocTestParser().get_doctest(text, names, title, None, None)
                 told = []
@@ -36,6 +76,12 @@ class Examples(unittest.TestCase):
                 self.assertGreater(result.attempted, 0)
                 self.assertEqual(result.failed, 0, "".join(told))
                 names = example.globs
+
+    def test_readme(self):
+        name = os.path.join(os.path.dirname(os.path.dirname(os.path.abspath(__file__))), "README.md")
+        result = doctest.testfile(name, module_relative=False)
+        self.assertGreater(result.attempted, 0)
+        self.assertEqual(result.failed, 0)
 
 
 if __name__ == "__main__":

@@ -20,6 +20,18 @@ FUNCTIONS = {
         is_polynomial(value) value_at(polynomial, place) times(one, other) primitive(polynomial) common(one, other)
         square_free(polynomial) count_roots(polynomial, low, high) root_cells(polynomial) integer_roots(polynomial)
         from_roots(roots)""",
+    "sums": """
+        sums_of(ledger, number) with_change(sums, key, by) sums_added(one, other) sums_less(one, other)
+        sums_scaled(sums, by) sums_product(one, other) sums_moved(sums, by) sums_stretched(sums, by)
+        sums_quotient(one, other) parting(one, other) blind(ledger) sign_changes(ledger)""",
+    "briefs": """
+        is_made(sums) brief(sums) in_span(sums, low, width) on_keys(sums, keys) least_blind(number, low)
+        cleared(ledger)""",
+    "rules": """
+        is_rule(sums, polynomial) rule_length(sums) rule_of(sums) determinant(sums, size) amounts_for(sums, keys)""",
+    "told": """
+        told(sums) reason(sums) sure(sums, most) mistaken(ledger, number) changed(before, after) steps_told(rows)
+        mended(sums, *, keys, wrong)""",
 }
 
 ERRORS = """
