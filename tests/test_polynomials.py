@@ -2,6 +2,7 @@
 
 import itertools
 import math
+import time
 import unittest
 from fractions import Fraction
 
@@ -220,6 +221,78 @@ class Roots(unittest.TestCase):
             (InvalidPolynomial, NO_ROOTS), (InvalidPlace, NOT_INTEGERS), (InvalidPlace, NOT_INTEGERS)])
         for function in (root_cells, integer_roots):
             check_wrong(self, function, [P], [(InvalidPolynomial, NO_ROOTS)])
+
+
+class ManyIntegerRoots(unittest.TestCase):
+    """Point 10: integer_roots of many, equal, near and great roots, one beside the other."""
+
+    def check_roots(self, roots, factor=(1,)):
+        """Check the roots of a polynomial that has these integer roots and those of a factor that has none."""
+        expected = sorted((root, roots.count(root)) for root in set(roots))
+        self.assertEqual(integer_roots(product_of(from_roots(roots), factor)), expected)
+
+    def test_24_roots_of_15_digits(self):
+        roots = [(-1) ** i * (10 ** 14 * 9 + 7919 * i * i) for i in range(24)]
+        self.assertEqual(integer_roots(from_roots(roots)), [(root, 1) for root in sorted(roots)])
+
+    def test_24_equal_roots_of_15_digits(self):
+        for root in (TOP, -TOP, 10 ** 14 + 7):
+            self.assertEqual(integer_roots(from_roots([root] * 24)), [(root, 24)])
+
+    def test_neighbours_of_54_digits(self):
+        for root in (7 * 10 ** 53, -10 ** 54 + 1, 10 ** 53 + 100, 101 ** 26):
+            self.assertEqual(integer_roots(from_roots([root, root + 1])), [(root, 1), (root + 1, 1)])
+            self.assertEqual(integer_roots(from_roots([root + 1, root, root + 1])), [(root, 1), (root + 1, 2)])
+
+    def test_many_calls(self):
+        # Each polynomial is another one, so that no kept answer can help.
+        rows = [[(-1) ** i * (10 ** 14 * 9 - step * i * i) for i in range(24)] for step in range(1, 300)]
+        polynomials = [from_roots(roots) for roots in rows]
+        start = time.process_time()
+        found = [integer_roots(polynomial) for polynomial in polynomials]
+        # This takes some four tenths of a second; ten times as long would be too long.
+        self.assertLess(time.process_time() - start, 4)
+        self.assertEqual(found, [[(root, 1) for root in sorted(roots)] for roots in rows])
+
+    def test_roots_with_the_same_last_digits(self):
+        for base in (2, 10, 97, 101, 103):
+            for exponent in (1, 2, 5, 7):
+                step = base ** exponent
+                self.check_roots([step * k - 5 for k in range(-3, 4)] + [TOP, -TOP])
+                self.check_roots([4, 4 + step, 4 + step, 4 - step, 4 + step * step])
+        self.check_roots([k * 101 ** 7 for k in range(-9, 9)])
+        self.check_roots([101 ** k for k in range(12)] + [0, 0])
+
+    def test_roots_beside_others_that_are_no_integers(self):
+        for factor in ((-2, 0, 1), (1, 0, 1), (-6, 0, 1), (-20, 0, 1), (3, 2), (-1, 101), (101, 0, 0, 1), (-5, 0, 0, 2),
+                       (-101, 0, 101 ** 2), (1, 1, 1, 1, 1)):
+            twice = product_of(factor, factor)
+            for roots in ([], [0], [TOP], [3, 3, -4], [45, 45 + 101, 56], [5, 5, 5, 10 ** 14, -96], [101, 0, -101]):
+                self.check_roots(roots, factor)
+                self.check_roots(roots, product_of(twice, twice, (-7,)))
+                self.check_roots(roots, product_of(twice, (10 ** 300,)))
+
+    def test_roots_near_others_modulo_powers(self):
+        # The fraction and the irrational roots agree with an integer in many last digits.
+        for base in (2, 3, 97, 101, 103):
+            for exponent in (1, 4, 9):
+                step = base ** exponent
+                self.check_roots([6, 6, -9], (6 + step, -1 - step))
+                self.check_roots([6, 6, 8], (36 + step, -12, 1))
+                self.check_roots([6], product_of((36 + step, -12, 1), (36 + step * base, -12, 1)))
+                self.check_roots([6, TOP], product_of((6 + step, -1 - step), (6 + 7 * step, -1 - step)))
+
+    def test_coefficients_of_many_digits(self):
+        wide = tuple(10 ** 700 + 10 ** (30 * k) * (-1) ** k for k in range(13))
+        self.check_roots([], wide)
+        self.check_roots([TOP, 1 - TOP, 0], wide)
+        self.check_roots([10 ** 300, 10 ** 300 + 101], wide)
+
+    def test_degrees_above_the_limit(self):
+        self.check_roots([5] * 101)
+        self.check_roots([5] * 101 + [106, -7])
+        self.check_roots([5] * 60 + [106] * 42)
+        self.check_roots(list(range(-60, 61)))
 
 
 class FromRoots(unittest.TestCase):
