@@ -14,7 +14,7 @@ WIDE = 400
 
 
 def in_row(sums, rule, place):
-    """Return the sum of each coefficient times the integer of the sums that stands so much behind a place."""
+    """Return the sum of the products of the coefficients and the integers of the sums from a place on."""
     return sum([factor * number for factor, number in zip(rule, sums[place:place + len(rule)])])
 
 

@@ -106,7 +106,7 @@ def mended(sums, *, keys, wrong):
     check_number(wrong, 0)
     if len(sums) < 2 * keys * (2 * wrong + 1):
         raise TooFewSums()
-    # Of wrong + 1 rows of sums one has no wrong sum, and 2 * keys sums tell the ledger.
+    # Of wrong + 1 parts of the sums one has no wrong sum, and 2 * keys sums of it tell the ledger.
     for k in range(wrong + 1):
         ledger = told_from(sums, 2 * keys * k, 2 * keys)
         if ledger is not None:
