@@ -1,6 +1,7 @@
 """Wrong values, and checks that the test files share."""
 
 import copy
+import functools
 import inspect
 from fractions import Fraction
 
@@ -104,6 +105,26 @@ def check_named(case, function, names, arguments, expected):
         case.assertEqual(result, expected)
         case.assertIs(type(result), type(expected))
     case.assertEqual(arguments, before)
+
+
+def check_star(case, function, good):
+    """Check that the arguments behind a star are not passed by position."""
+    names = [p.name for p in inspect.signature(function).parameters.values() if p.kind == p.KEYWORD_ONLY]
+    case.assertTrue(names)
+    for many in range(len(names)):
+        plain = good[:len(good) - many]
+        named = dict(zip(names[len(names) - many:], good[len(good) - many:]))
+        with case.assertRaises(TypeError):
+            given = function(*plain, **named)
+            next(given)
+
+
+def as_list(function):
+    """Return a function with the same name and arguments that returns the list of what a generator gives."""
+    @functools.wraps(function)
+    def inner(*arguments, **named):
+        return list(function(*arguments, **named))
+    return inner
 
 
 def check_new_lists(case, function, arguments):

@@ -58,7 +58,39 @@ TOLD = """
     (((2, 3),), [3])
 """
 
-SECTIONS = (LEDGERS, POLYNOMIALS, SUMS, BRIEFS, RULES, TOLD)
+COUNTS = """
+    >>> from changesums.counts import cover, half_cover, needed_count, rival, runs, sure_count
+    >>> [runs(((2, 5), (3, 1), (7, 4))), half_cover(((2, 5), (3, 1), (7, 4))), cover(((2, 1), (3, 1))), cover(((7, 4),))]
+    [[(2, 2), (7, 1)], 2, (6, -5, 1), (49, -14, 1)]
+    >>> [sure_count((2, 14)), sure_count((2, 14, 98)), needed_count(((7, 2),)), rival(((7, 1),), 2), rival(((7, 2),), 3)]
+    [None, ((7, 2),), 3, (2, ((6, 1), (8, 1))), None]
+"""
+
+BOXES = """
+    >>> from changesums.boxes import count_in_box, in_box, lightest_in_box, needed_in_box, safe_width, twins
+    >>> [count_in_box((2, 2), low=0, width=3, most=1), list(in_box((2, 2), low=0, width=3, most=2)), twins(2, width=4, most=1)]
+    [1, [((1, 2),), ((0, 1), (2, 1)), ((0, 2), (1, -2), (2, 2))], (((0, -1), (3, -1)), ((1, -1), (2, -1)))]
+    >>> [lightest_in_box((2, 2), low=0, width=3, most=2), safe_width(1, most=1), needed_in_box(((1, 2),), low=0, width=3, most=2)]
+    [((1, 2),), 1, 3]
+"""
+
+MODULAR = """
+    >>> from changesums.modular import all_told, reduced, sums_modulo, told_modulo
+    >>> [reduced(a, 7), sums_modulo(a, 7, 4), told_modulo((6, 5, 1, 1), 7), told_modulo((1, 2, 4, 2), 7), all_told((1, 0, 1), 3)]
+    [((5, 3), (6, 3)), (6, 5, 1, 1), ((5, 3), (6, 3)), None, ((1, 2), (2, 2))]
+"""
+
+TALKS = """
+    >>> from changesums.talks import least_cost, least_number, ranges, surely_same, talk, worst_rounds
+    >>> talk(((1, 1), (6, 2)), ((1, 1), (7, 2)), number=4, low=0, width=8)
+    [[(0, 8, ('cut',))], [(0, 4, ('told', ())), (4, 4, ('told', ((6, 2), (7, -2))))]]
+    >>> [least_number(((1, 1), (6, 2)), ((1, 1), (7, 2)), rounds=1, low=0, width=8), worst_rounds(4, width=100, most=2)]
+    [6, 6]
+    >>> [list(ranges(2, low=0, width=5)), surely_same((1, 2), 1, (1, 2), 9), surely_same((1, 2, 4), 1, (1, 2, 4), 9, firm=True)]
+    [[(0, 5), (0, 2), (2, 3), (2, 1), (3, 2)], None, True]
+"""
+
+SECTIONS = (LEDGERS, POLYNOMIALS, SUMS, BRIEFS, RULES, TOLD, COUNTS, BOXES, MODULAR, TALKS)
 
 
 class Examples(unittest.TestCase):

@@ -32,6 +32,20 @@ FUNCTIONS = {
     "told": """
         told(sums) reason(sums) sure(sums, most) mistaken(ledger, number) changed(before, after) steps_told(rows)
         mended(sums, *, keys, wrong)""",
+    "counts": """
+        runs(ledger) half_cover(ledger) cover(ledger) sure_count(sums) needed_count(ledger) rival(ledger, number)""",
+    "boxes": """
+        count_in_box(sums, *, low, width, most) in_box(sums, *, low, width, most)
+        nth_in_box(sums, index, *, low, width, most) lightest_in_box(sums, *, low, width, most)
+        twins(number, *, width, most) safe_width(number, *, most) needed_in_box(ledger, *, low, width, most)""",
+    "modular": """
+        reduced(ledger, prime) sums_modulo(ledger, prime, number) told_modulo(sums, prime)
+        rule_length_modulo(sums, prime) all_told(sums, prime)""",
+    "talks": """
+        verdict(one, many, other, other_many, *, low, width) talk(one, other, *, number, low, width)
+        talk_cost(rounds, number) least_number(one, other, *, rounds, low, width)
+        least_cost(one, other, *, low, width) worst_rounds(number, *, width, most) ranges(number, *, low, width)
+        surely_same(one, many, other, other_many, *, firm=False)""",
 }
 
 ERRORS = """
@@ -66,6 +80,11 @@ class Interface(unittest.TestCase):
                 with self.subTest(module=module, name=name):
                     self.assertIn(name, names)
                     self.assertEqual(str(inspect.signature(getattr(functions, name))), signature)
+
+    def test_generators(self):
+        for module, name in [("boxes", "in_box"), ("talks", "ranges")]:
+            functions = importlib.import_module(f"changesums.{module}")
+            self.assertTrue(inspect.isgeneratorfunction(getattr(functions, name)))
 
     def test_each_error_stands_in_its_file(self):
         self.assertEqual(sorted(defined("errors")), sorted(ERRORS + ["SumsError"]))
