@@ -38,6 +38,16 @@ def summed(changes):
     return tuple([(key, amounts[key]) for key in sorted(amounts) if amounts[key] != 0])
 
 
+def changed_in(amounts, key, by):
+    """Change the amount at a key of a dict that has no amount 0, and return the new one."""
+    amount = amounts.get(key, 0) + by
+    if amount == 0:
+        amounts.pop(key, None)
+    else:
+        amounts[key] = amount
+    return amount
+
+
 def gathered(changes):
     """Return the ledger that has at each key the sum of the numbers by which it is changed."""
     check_changes(changes)

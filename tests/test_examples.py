@@ -90,7 +90,31 @@ TALKS = """
     [[(0, 5), (0, 2), (2, 3), (2, 1), (3, 2)], None, True]
 """
 
-SECTIONS = (LEDGERS, POLYNOMIALS, SUMS, BRIEFS, RULES, TOLD, COUNTS, BOXES, MODULAR, TALKS)
+TEXTS = """
+    >>> from changesums.texts import format_ledger, format_sums, parse_ledger
+    >>> [format_ledger(a), format_ledger(()), parse_ledger("-4:+1 0:-20"), format_sums((6, -12, 0))]
+    ['-1:+3 5:+3', '-', ((-4, 1), (0, -20)), 'sums 6, -12, 0']
+"""
+
+OBJECTS = """
+    >>> from changesums.objects import Ledger, Sums
+    >>> b = Ledger(a)
+    >>> [(b + ((0, 1),)).pairs, (b * b).pairs, (2 * b >> 1).pairs, (b % 3).pairs, abs(b), b[5], 4 in b]
+    [((-1, 3), (0, 1), (5, 3)), ((-2, 9), (4, 18), (10, 9)), ((-2, 6), (4, 6)), ((2, 6),), 6, 3, False]
+    >>> [Sums.of(a, 4)[2], (Sums((1, 2)) * Sums((3, 4))).numbers, Sums.of(a, 4)(5, -3).told()]
+    [78, (3, 10), ((-1, 3),)]
+"""
+
+BOOKS = """
+    >>> from changesums.books import FirmCappedBook
+    >>> c = FirmCappedBook(4, most=2)
+    >>> [c.apply([(3, 5), (8, 2), (3, -1)]), c.change(8, -2), c.sums_now, c.undo(), c.pairs_now, c.told_words()]
+    [2, 0, (4, 12, 36, 108), 'change', ((3, 4), (8, 2)), ['keys 2', 'sums 4', 'firm', 'most 2']]
+"""
+
+SECTIONS = (
+    (2, LEDGERS), (3, POLYNOMIALS), (4, SUMS), (5, BRIEFS), (6, RULES), (7, TOLD), (8, COUNTS), (9, BOXES),
+    (10, MODULAR), (11, TALKS), (13, TEXTS), (14, OBJECTS), (15, BOOKS))
 
 
 class Examples(unittest.TestCase):
@@ -98,7 +122,7 @@ class Examples(unittest.TestCase):
 
     def test_examples(self):
         names = {}
-        for number, text in enumerate(SECTIONS, start=2):
+        for number, text in SECTIONS:
             title = f"section {number}"
             with self.subTest(title):
                 example = doctest.DocTestParser().get_doctest(text, names, title, None, None)

@@ -4,6 +4,7 @@ import ast
 import importlib
 import inspect
 import os
+import re
 import unittest
 
 from changesums import errors
@@ -46,7 +47,35 @@ FUNCTIONS = {
         talk_cost(rounds, number) least_number(one, other, *, rounds, low, width)
         least_cost(one, other, *, low, width) worst_rounds(number, *, width, most) ranges(number, *, low, width)
         surely_same(one, many, other, other_many, *, firm=False)""",
+    "logs": """
+        ledger_after(ledger, log) short_log(one, other) sums_along(ledger, log, number) log_fault(ledger, log, rows)
+        common_log(one, other) shortest_undo(log) first_return(log)""",
+    "texts": """
+        format_ledger(ledger) parse_ledger(text) format_sums(sums) parse_sums(text)""",
 }
+
+# The methods that stand in each class itself, with their arguments; properties and operators by their names alone.
+CLASSES = {
+    "objects": {
+        "Ledger": """
+            __init__(self, pairs=()) pairs __getitem__ __setitem__ __len__ __contains__ __eq__ __abs__ __neg__ __add__
+            __radd__ __sub__ __rsub__ __mul__ __rmul__ __pow__ __lshift__ __rshift__ __floordiv__ __mod__ __iadd__
+            __isub__ __imul__ __ilshift__ __irshift__""",
+        "Sums": """
+            __init__(self, numbers) numbers of(ledger, number) __len__ __getitem__ __add__ __sub__ __mul__ __rmul__
+            __floordiv__ __lshift__ __eq__ __call__(self, key, by) told(self) reason(self) brief(self)""",
+    },
+    "books": {
+        "Book": """
+            __init__(self, number) MOST pairs_now sums_now number __getitem__ __setitem__ __len__
+            renumber(self, number) change(self, key, by) apply(self, changes) undo(self) differs(self, sums)
+            same_as(self, sums, many) told_words(self) is_valid(value) read(text)""",
+        "FirmBook": "__init__(self, number)",
+        "CappedBook": "__init__(self, number, most=20) most",
+        "FirmCappedBook": "__init__(self, number, most=20)",
+    },
+}
+PROPERTIES = {"pairs", "numbers", "pairs_now", "sums_now", "number", "most"}
 
 ERRORS = """
     InvalidLedger InvalidChanges InvalidKey InvalidAmount InvalidNumber InvalidStep InvalidWidth InvalidPolynomial
@@ -88,6 +117,28 @@ class Interface(unittest.TestCase):
 
     def test_each_error_stands_in_its_file(self):
         self.assertEqual(sorted(defined("errors")), sorted(ERRORS + ["SumsError"]))
+
+
+    def test_each_class_stands_in_its_file_with_its_methods(self):
+        for module, classes in CLASSES.items():
+            self.assertLessEqual(set(classes), set(defined(module)))
+            for class_name, text in classes.items():
+                made = getattr(importlib.import_module(f"changesums.{module}"), class_name)
+                for name, arguments in re.findall(r"(\w+)(\((?:\(\)|[^()])*\))?", text):
+                    with self.subTest(made=class_name, name=name):
+                        self.assertIn(name, vars(made))
+                        if arguments:
+                            self.assertEqual(str(inspect.signature(getattr(made, name))), arguments)
+                        if name in PROPERTIES:
+                            self.assertIsInstance(vars(made)[name], property)
+
+    def test_kinds_of_methods(self):
+        objects = importlib.import_module("changesums.objects")
+        books = importlib.import_module("changesums.books")
+        self.assertIsInstance(vars(objects.Sums)["of"], classmethod)
+        self.assertIsInstance(vars(books.Book)["read"], classmethod)
+        self.assertIsInstance(vars(books.Book)["is_valid"], staticmethod)
+        self.assertEqual(books.Book.MOST, 24)
 
 
 class ErrorTree(unittest.TestCase):

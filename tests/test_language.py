@@ -19,7 +19,17 @@ BUILTINS = set("""
     len range enumerate zip min max sum abs sorted reversed int str bool list tuple dict set isinstance ord repr any all
     divmod iter next map property staticmethod classmethod super NotImplemented Exception ValueError TypeError KeyError
     IndexError LookupError ZeroDivisionError True False None""".split())
-BARRED = (ast.AsyncFunctionDef, ast.Global, ast.Await, ast.AsyncFor, ast.AsyncWith, ast.Div)
+BARRED = (ast.AsyncFunctionDef, ast.Global, ast.Await, ast.AsyncFor, ast.AsyncWith, ast.Div, ast.AugAssign,
+          ast.GeneratorExp, ast.Try, ast.Lambda)
+DOUBLE = set("""
+    __init__ __iter__ __eq__ __len__ __call__ __contains__ __getitem__ __setitem__ __abs__ __neg__ __add__ __radd__
+    __iadd__ __sub__ __rsub__ __isub__ __mul__ __rmul__ __imul__ __pow__ __lshift__ __ilshift__ __rshift__ __irshift__
+    __floordiv__ __mod__""".split())
+METHODS = set("""
+    append clear copy count endswith extend find get index insert isalnum isalpha isdigit islower isspace isupper items
+    join keys ljust lower lstrip partition pop remove replace reverse rfind rjust rpartition rsplit rstrip setdefault
+    split splitlines startswith strip update upper values zfill bit_length isascii""".split())
+WORDS = re.compile(r"\b(type|typing|enum|Enum|Flag|Generic|Protocol|ABC|register|mro|elements|law)\b|dataclass|Meta|\(type\)")
 
 
 def files():
@@ -102,6 +112,39 @@ class Language(unittest.TestCase):
                     self.assertNotIn("%", str(node.value), name)
                 if isinstance(node, ast.BinOp) and isinstance(node.op, ast.Pow):
                     self.assertIsInstance(node.right, ast.Constant, name)
+
+    def test_classes(self):
+        for name, tree in self.trees:
+            for made in [node for node in ast.walk(tree) if isinstance(node, ast.ClassDef)]:
+                with self.subTest(file=name, made=made.name):
+                    self.assertEqual(made.decorator_list, [])
+                    methods = [node for node in made.body if isinstance(node, ast.FunctionDef)]
+                    names = [method.name for method in methods]
+                    self.assertEqual(len(names), len(set(names)))
+                    self.assertLessEqual({each for each in names if each.startswith("__")}, DOUBLE)
+                    self.assertEqual("__getitem__" in names, "__iter__" in names)
+                    for method in methods:
+                        words = {word.id for word in method.decorator_list}
+                        self.assertLessEqual(words, {"property", "staticmethod", "classmethod"})
+
+    def test_methods_that_are_called(self):
+        own = {node.name for _, tree in self.trees for node in ast.walk(tree) if isinstance(node, ast.FunctionDef)}
+        for name, tree in self.trees:
+            called = {node.func.attr for node in ast.walk(tree)
+                      if isinstance(node, ast.Call) and isinstance(node.func, ast.Attribute)}
+            self.assertLessEqual(called, METHODS | own, name)
+
+    def test_no_local_name_is_that_of_an_import(self):
+        for name, tree in self.trees:
+            imported = {alias.name for node in tree.body if isinstance(node, ast.ImportFrom) for alias in node.names}
+            for function in [node for node in ast.walk(tree) if isinstance(node, ast.FunctionDef)]:
+                local = bound_names(function) - {function.name}
+                self.assertFalse(local & imported, (name, function.name))
+
+    def test_words(self):
+        for name, text in files():
+            for row in text.split("\n"):
+                self.assertIsNone(WORDS.search(row), (name, row))
 
 
 if __name__ == "__main__":
