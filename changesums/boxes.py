@@ -150,45 +150,36 @@ def lightest_choices(totals, weights):
     return table
 
 
-def lightest_places(firsts, first_weights, seconds, second_weights, target):
-    """Return the list of the tuples (weight, place) of the lightest ledger with each choice of the first half."""
-    table = lightest_choices(seconds, second_weights)
+def lightest_of(halves, low, width, most):
+    """Return the first one of the lightest ledgers that halves, as halved returns them, give, or None."""
+    firsts, seconds, target = halves
+    table = lightest_choices(seconds, weights_of_choices(width - width // 2, most))
     found = []
-    for i, (total, weight) in enumerate(zip(firsts, first_weights)):
+    for i, (total, weight) in enumerate(zip(firsts, weights_of_choices(width // 2, most))):
         rest = table.get(target - total)
         if rest is not None:
             found.append((weight + rest[0], i * len(seconds) + rest[1]))
-    return found
+    return ledger_at(min(found)[1], low, width, most) if found else None
 
 
 def lightest_in_box(sums, *, low, width, most):
     """Return the first one of the ledgers of the least weight in the box that have the sums, or None."""
     check_sums(sums)
     check_box(low, width, most)
-    firsts, seconds, target = halved(sums, low, width, most)
-    first_weights = weights_of_choices(width // 2, most)
-    second_weights = weights_of_choices(width - width // 2, most)
-    found = lightest_places(firsts, first_weights, seconds, second_weights, target)
-    return ledger_at(min(found)[1], low, width, most) if found else None
+    return lightest_of(halved(sums, low, width, most), low, width, most)
 
 
 def lightest_blind(number, width, most):
     """Return the first one of the lightest ledgers but () in the box with low 0 whose first sums are 0, or None.
 
-    With a ledger the box has the one scaled by -1, and () is in the middle of the
-    order. So the first one of the lightest ones stands in front of ().
+    Such a ledger may be moved and scaled by -1. So the first one of the lightest ones
+    has an amount below 0 at the key 0, and other choices of the first half are left out.
     """
     if number >= width:
         return None
     firsts, seconds, target = halved((0,) * number, 0, width, most)
-    middle, second_middle = len(firsts) // 2, len(seconds) // 2
-    first_weights = weights_of_choices(width // 2, most)
-    second_weights = weights_of_choices(width - width // 2, most)
-    found = lightest_places(firsts[:middle], first_weights, seconds, second_weights, target)
-    rest = lightest_choices(seconds[:second_middle], second_weights).get(target)
-    if rest is not None:
-        found.append((rest[0], middle * len(seconds) + rest[1]))
-    return ledger_at(min(found)[1], 0, width, most) if found else None
+    below = len(firsts) // (2 * most + 1) * most
+    return lightest_of((firsts[:below], seconds, target), 0, width, most)
 
 
 def twins(number, *, width, most):

@@ -95,5 +95,5 @@ def rival(ledger, number):
     apart = blind_at(row[:number + 1])
     table = dict(ledger)
     # The second, the fourth .. places of the row are the marked keys, so the ledger has them.
-    many = max([1] + [-(by // table[key]) for key, by in apart if by < 0])
+    many = max([-(by // table[key]) for key, by in apart if by < 0])
     return many, summed([(key, many * amount) for key, amount in ledger] + apart)

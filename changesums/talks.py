@@ -16,12 +16,6 @@ def check_tellings(one, many, other, other_many):
     check_number(other_many, 0)
 
 
-def check_lengths(one, other):
-    """Raise OtherLength if two sums have unlike lengths."""
-    if len(one) != len(other):
-        raise OtherLength()
-
-
 def check_in_span(one, other, low, width):
     """Raise OutOfSpan if one of two checked ledgers has a key out of the span."""
     for ledger in (one, other):
@@ -58,7 +52,6 @@ def verdict(one, many, other, other_many, *, low, width):
     check_tellings(one, many, other, other_many)
     check_key(low)
     check_width(width, 1)
-    check_lengths(one, other)
     apart = sums_less(one, other)
     ledger = sure(apart, many + other_many)
     if ledger is not None:
@@ -168,13 +161,11 @@ def least_cost(one, other, *, low, width):
     check_width(width, 1)
     check_in_span(one, other, low, width)
     needed = [least for row in needed_numbers(one, other, low, width) for least in row]
-    best, found = None, 1
     # From the number that the whole span needs on there is one range, so no greater number costs less.
-    for number in range(1, max(1, needed[0]) + 1):
-        rows = 1 + 2 * len([least for least in needed if least > number])
-        if best is None or rows * (number + 1) < best:
-            best, found = rows * (number + 1), number
-    return found
+    costs = [
+        ((1 + 2 * len([least for least in needed if least > number])) * (number + 1), number)
+        for number in range(1, max(1, needed[0]) + 1)]
+    return min(costs)[1]
 
 
 def worst_rounds(number, *, width, most):
@@ -206,7 +197,8 @@ def ranges(number, *, low, width):
 def surely_same(one, many, other, other_many, *, firm=False):
     """Return whether two stores surely have the same ledger, None if that is not sure."""
     check_tellings(one, many, other, other_many)
-    check_lengths(one, other)
+    if len(one) != len(other):
+        raise OtherLength()
     if one != other:
         return False
     if many + other_many <= len(one):

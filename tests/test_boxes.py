@@ -90,6 +90,20 @@ class InBoxes(unittest.TestCase):
             for index in (0, 1, -1):
                 assert_error(self, InvalidIndex, nth_in_box, sums, index, **box)
 
+    def test_great_sums_are_not_taken_for_small_ones(self):
+        # Sums far out of a box, of which each makes up for the one before it in a number with several parts.
+        for low, width, most in [(0, 3, 1), (0, 1, 2), (0, 8, 4), (-2, 5, 0)]:
+            for bits in range(1, 40):
+                for sign in (-1, 1):
+                    great = sign * 2 ** bits
+                    for sums in [(great, -sign), (-great, sign, 0), (0, great, -sign), (great, 0), (0, great)]:
+                        expected = 0
+                        if width * most < 9:
+                            expected = len(by_sums(low, width, most, len(sums)).get(sums, []))
+                        elif bits < 9:
+                            continue
+                        self.assertEqual(count_in_box(sums, low=low, width=width, most=most), expected)
+
     def test_names(self):
         values = [(2, 2), 0, 3, 2]
         ledgers = [((1, 2),), ((0, 1), (2, 1)), ((0, 2), (1, -2), (2, 2))]

@@ -273,20 +273,19 @@ class LeastNumbers(unittest.TestCase):
             self.assertEqual(least_cost(one, other, low=0, width=6), 1 + costs.index(min(costs)))
 
     def test_least_of_several_numbers_of_the_same_cost(self):
-        # Many keys side by side and a few others: cuts cost less than one range, as much, or more.
-        for size in (5, 6, 7, 9):
-            places = list(range(2 * size)) + list(range(2 * size, 2 * size + size // 2))
-            places += list(range(4 * size, 4 * size + size // 2))
-            one = tuple((key, 2) for key in places)
-            if size % 2 == 1:
-                one = tuple((key, 2) for key in places + [8 * size - 1])
-            other = tuple((key, 1) for key in range(2 * size))
+        # Many keys side by side and a few others: cuts cost more than one range, as much, or less.
+        for size, least in [(4, 32), (5, 40), (6, 6), (7, 7), (8, 8)]:
+            # Four ranges, of the widths size, size, 2 * size and 4 * size, that need just size each.
+            both = list(range(2 * size)) + [start for start in (2 * size, 4 * size) if size % 2 == 1]
+            alone = [start + 1 + k for start in (2 * size, 4 * size) for k in range((size - 3 * (size % 2)) // 2)]
+            one = tuple((key, 2) for key in sorted(both + alone))
+            other = tuple((key, 1) for key in both)
             width = 8 * size
             costs = [plain_cost(talk(one, other, number=number, low=0, width=width), number) for number in range(1, 99)]
-            with self.subTest(size=size):
-                self.assertEqual(least_cost(one, other, low=0, width=width), 1 + costs.index(min(costs)))
-                if size == 6:
-                    self.assertEqual([at + 1 for at, cost in enumerate(costs) if cost == min(costs)], [6, 48])
+            self.assertEqual(costs[size - 1], 14 * (size + 1))
+            self.assertEqual(costs[width - 1], 2 * (width + 1))
+            self.assertEqual(least, 1 + costs.index(min(costs)))
+            self.assertEqual(least_cost(one, other, low=0, width=width), least)
 
     def test_worst_rounds_by_all_pairs(self):
         for width in range(1, 7):
