@@ -68,8 +68,8 @@ def halved(sums, low, width, most):
     bound = most * raised(width, number)
     if max([abs(total) for total in wanted]) > bound:
         return [], [], 0
-    firsts = packed_choices(range(width // 2), number, most, bound)
-    seconds = packed_choices(range(width // 2, width), number, most, bound)
+    firsts = packed_choices(list(range(width // 2)), number, most, bound)
+    seconds = packed_choices(list(range(width // 2, width)), number, most, bound)
     return firsts, seconds, packed(wanted, bound)
 
 

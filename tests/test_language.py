@@ -134,6 +134,24 @@ class Language(unittest.TestCase):
                       if isinstance(node, ast.Call) and isinstance(node.func, ast.Attribute)}
             self.assertLessEqual(called, METHODS | own, name)
 
+    def test_what_is_iterated_at_once(self):
+        takers = {"list", "tuple", "dict", "sorted", "sum", "min", "max", "any", "all", "enumerate", "zip"}
+        for name, tree in self.trees:
+            for parent in ast.walk(tree):
+                for child in ast.iter_child_nodes(parent):
+                    if not isinstance(child, ast.Call):
+                        continue
+                    function = child.func
+                    word = getattr(function, "id", getattr(function, "attr", None))
+                    if word not in {"range", "zip", "enumerate", "reversed", "items", "keys", "values"}:
+                        continue
+                    with self.subTest(file=name, row=child.lineno):
+                        if isinstance(parent, ast.Call) and child in parent.args:
+                            self.assertTrue(parent.func.id in takers or (parent.func.id, word) == ("reversed", "range"))
+                        else:
+                            self.assertIsInstance(parent, (ast.For, ast.comprehension))
+                            self.assertIs(parent.iter, child)
+
     def test_no_local_name_is_that_of_an_import(self):
         for name, tree in self.trees:
             imported = {alias.name for node in tree.body if isinstance(node, ast.ImportFrom) for alias in node.names}
